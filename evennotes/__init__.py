@@ -1,0 +1,1 @@
+"""Evennotes: what always holds in programs whose ways nobody knows."""

@@ -1,0 +1,112 @@
+"""The package's own files, held against those rules of its language that a walk over their parts can see."""
+
+import ast
+import builtins
+import re
+import unittest
+from pathlib import Path
+
+PACKAGE = Path(__file__).resolve().parent.parent / "evennotes"
+FILES = sorted(PACKAGE.glob("*.py"))
+OWN_NAMES = set("""len range enumerate zip min max sum abs sorted reversed int str bool list tuple dict set frozenset
+isinstance ord repr any all divmod Exception ValueError TypeError KeyError IndexError LookupError ZeroDivisionError
+ArithmeticError OverflowError RuntimeError NotImplementedError AttributeError StopIteration""".split())
+OWN_METHODS = set("""append clear copy count endswith extend find get index insert isalnum isalpha isdigit islower
+isspace isupper items join keys ljust lower lstrip partition pop remove replace reverse rfind rjust rpartition rsplit
+rstrip setdefault split splitlines startswith strip update upper values zfill bit_length""".split())
+NO_WORDS = set("""type typing typing_extensions enum Enum IntEnum StrEnum Flag IntFlag Generic Protocol ABC ABCMeta
+namedtuple NamedTuple TypedDict TYPE_CHECKING abstractmethod""".split())
+NO_PARTS = (
+    ast.With, ast.Delete, ast.Global, ast.Nonlocal, ast.Assert, ast.Yield, ast.YieldFrom, ast.AsyncFunctionDef,
+    ast.Await, ast.AsyncFor, ast.AsyncWith, ast.Match, ast.SetComp, ast.DictComp, ast.GeneratorExp, ast.NamedExpr,
+    ast.Starred, ast.Div, ast.Import, ast.AnnAssign, ast.Set)
+
+
+def own_values():
+    """The names of the package's own methods, and of the values its objects have."""
+    told = {"__init__"}
+    for name, part in parts():
+        if isinstance(part, ast.ClassDef):
+            told |= {each.name for each in part.body if isinstance(each, ast.FunctionDef)}
+        if isinstance(part, ast.Attribute) and isinstance(part.ctx, ast.Store):
+            told.add(part.attr)
+    return told
+
+
+def parts():
+    for path in FILES:
+        for part in ast.walk(ast.parse(path.read_text())):
+            yield path.name, part
+
+
+class Form(unittest.TestCase):
+    def test_only_plain_files_lie_there(self):
+        self.assertGreaterEqual({path.name for path in FILES},
+                                {"__init__.py", "errors.py", "echelons.py", "squares.py", "programs.py"})
+        for path in PACKAGE.iterdir():
+            if path.name != "__pycache__":
+                self.assertRegex(path.name, r"^[a-z0-9_]+\.py$")
+
+    def test_signs_and_sizes(self):
+        for path in FILES:
+            text = path.read_bytes().decode("ascii")
+            self.assertRegex(text, r"\A[ -~\n]*\Z")
+            rows = text.split("\n")
+            self.assertLessEqual(len(rows), 400, path)
+            self.assertLessEqual(max(map(len, rows)), 120, path)
+
+    def test_words_that_stand_nowhere(self):
+        for path in FILES:
+            text = path.read_text()
+            self.assertEqual(NO_WORDS & set(re.findall(r"\w+", text)), set(), path)
+            self.assertIsNone(re.search("dataclass|overload|contextmanager", text), path)
+
+    def test_parts_that_are_not_used(self):
+        for name, part in parts():
+            self.assertNotIsInstance(part, NO_PARTS, name)
+            if isinstance(part, ast.Constant):
+                self.assertNotIsInstance(part.value, (float, bytes, complex), name)
+                self.assertFalse(isinstance(part.value, str) and chr(37) in part.value, name)
+            if isinstance(part, ast.Assign):
+                self.assertEqual(len(part.targets), 1, name)
+            if isinstance(part, ast.ListComp):
+                self.assertEqual(len(part.generators), 1, name)
+                self.assertLessEqual(len(part.generators[0].ifs), 1, name)
+            if isinstance(part, (ast.For, ast.While)):
+                self.assertEqual(part.orelse, [], name)
+            if isinstance(part, ast.Compare) and any(isinstance(op, (ast.Is, ast.IsNot)) for op in part.ops):
+                self.assertIn(part.comparators[0].value, (None, True, False), name)
+
+    def test_functions_and_classes(self):
+        for name, part in parts():
+            if isinstance(part, ast.FunctionDef):
+                self.assertLessEqual(part.end_lineno - part.lineno + 1, 40, (name, part.name))
+                given = part.args
+                self.assertFalse(given.vararg or given.kwarg or given.kwonlyargs or given.posonlyargs, (name, part.name))
+            if isinstance(part, (ast.FunctionDef, ast.ClassDef)):
+                self.assertEqual(part.decorator_list, [], (name, part.name))
+            if isinstance(part, ast.ClassDef):
+                self.assertLessEqual(len(part.bases), 1, (name, part.name))
+
+    def test_imports_are_the_packages_own(self):
+        for name, part in parts():
+            if isinstance(part, ast.ImportFrom):
+                self.assertEqual(part.level, 0, name)
+                self.assertRegex(part.module, r"^evennotes\.[a-z]+$", name)
+
+    def test_names_and_methods(self):
+        own = own_values()
+        for name, part in parts():
+            if isinstance(part, ast.Name):
+                self.assertRegex(part.id, r"^[A-Za-z]", name)
+                if part.id in dir(builtins):
+                    self.assertIn(part.id, OWN_NAMES, name)
+                    self.assertIsInstance(part.ctx, ast.Load, (name, part.id))
+            if isinstance(part, ast.arg):
+                self.assertNotIn(part.arg, dir(builtins), name)
+            if isinstance(part, ast.Attribute):
+                self.assertIn(part.attr, OWN_METHODS | own, name)
+
+
+if __name__ == "__main__":
+    unittest.main()
