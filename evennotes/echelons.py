@@ -22,9 +22,10 @@ def made_of(lines, line):
 
 
 def noughts(long, lines):
-    rows = settled(lines)
-    heads = [head(row) for row in rows]
-    return settled([nought_by(long, rows, place) for place in range(long) if place not in heads])
+    rows = [tuple([1 if other == place else 0 for other in range(long)]) for place in range(long)]
+    for line in lines:
+        rows = noughts_of(rows, line)
+    return rows
 
 
 def head(line):
@@ -95,15 +96,16 @@ def row_without(row, new, place):
     return lowest(combined(new[place], row, -row[place], new))
 
 
-# Each settled row binds the number at its head by those at the free places: one free place at a time
-# gets another number than 0, and it is a common multiple of the heads so that all numbers are whole.
-def nought_by(long, rows, free):
-    times = 1
+# Of a settled list, what is made of it and worth 0 with the line, settled. The first row that isn't worth 0
+# is taken off those behind it and left out: its head lies ahead of theirs, and at theirs it has 0.
+def noughts_of(rows, line):
+    left = []
+    first = None
     for row in rows:
-        times = common_multiple(times, row[head(row)])
-    numbers = [0] * long
-    numbers[free] = times
-    for row in rows:
-        place = head(row)
-        numbers[place] = -(times * row[free] // row[place])
-    return tuple(numbers)
+        if worth(row, line) == 0:
+            left.append(row)
+        elif first is None:
+            first = row
+        else:
+            left.append(lowest(combined(worth(first, line), row, -worth(row, line), first)))
+    return left

@@ -51,6 +51,13 @@ def taken_in(square, line, rest):
     return rows
 
 
+# The ground with one line more, or None where this is a whole sum of the ground already.
+def ground_with(square, line, rest):
+    if whole_sum(square, line) is not None:
+        return None
+    return lowered(taken_in(square, line, rest))
+
+
 def lowered(square):
     rows = []
     for line in square:

@@ -9,6 +9,15 @@ def is_whole(thing):
     return isinstance(thing, int) and not isinstance(thing, bool)
 
 
+def change_lists(told):
+    """Changes each list that was told, also those within others."""
+    for part in told:
+        if isinstance(part, (list, tuple)):
+            change_lists(part)
+    if isinstance(told, list):
+        told[:1] = ["other", "more"]
+
+
 # ---- lines
 
 def is_line(thing, long):
@@ -208,3 +217,203 @@ def is_a_program(thing):
     except NoProgram:
         return False
     return True
+
+
+# ---- layouts
+
+def signs(bodies, rows):
+    """The rows one after another, those of called bodies in the call's place, with signs where lists begin and end."""
+    for row in rows:
+        if row[0] == "call":
+            yield from signs(bodies, bodies[row[1]])
+        elif row[0] == "either":
+            yield ("either",)
+            yield from signs(bodies, row[1])
+            yield ("or",)
+            yield from signs(bodies, row[2])
+            yield ("either ends",)
+        elif row[0] == "loop":
+            yield ("loop",)
+            yield from signs(bodies, row[1])
+            yield ("loop ends",)
+        else:
+            yield row
+
+
+def laid_by_signs(program):
+    """The layout as point 10 tells it, made in one walk over the signs."""
+    count, steps, place, open_places = 1, [], 0, []
+    for row in signs(program[1], program[1][0]):
+        if row[0] == "either":
+            open_places.append(place)
+            continue
+        if row[0] == "or":
+            place, open_places[-1] = open_places[-1], place
+            continue
+        if row[0] == "loop ends":
+            steps.append((place, open_places[-1], ("skip",)))
+            place = open_places.pop()
+            continue
+        new, count = count, count + 1
+        if row[0] == "either ends":
+            steps.append((open_places.pop(), new, ("skip",)))
+            steps.append((place, new, ("skip",)))
+        elif row[0] == "loop":
+            steps.append((place, new, ("skip",)))
+            open_places.append(new)
+        elif row[0] != "halt":
+            steps.append((place, new, row))
+        place = new
+    return (count, steps, place)
+
+
+def places_come_to(program):
+    count, steps, end = laid_by_signs(program)
+    found, fresh = {0}, [0]
+    while fresh:
+        place = fresh.pop()
+        for start, to, deed in steps:
+            if start == place and to not in found:
+                found.add(to)
+                fresh.append(to)
+    return found
+
+
+# ---- runs
+
+def after(deed, number, stand):
+    numbers = list(stand)
+    if deed[0] == "take":
+        numbers[1 + deed[1]] = number
+    if deed[0] == "set":
+        numbers[1 + deed[1]] = sum(deed[2][k] * stand[k] for k in range(len(stand)))
+    return tuple(numbers)
+
+
+def walked(program, moves):
+    """The places and stands along the moves, or None where they are no run."""
+    count, steps, end = laid_by_signs(program)
+    told = [(0, tuple([1] + [0] * program[0]))]
+    for step, number in moves:
+        place, stand = told[-1]
+        if step not in range(len(steps)) or steps[step][0] != place:
+            return None
+        deed = steps[step][2]
+        if is_whole(number) != (deed[0] == "take"):
+            return None
+        told.append((steps[step][1], after(deed, number, stand)))
+    return told
+
+
+def why_no_told_run(program, moves):
+    """Told runs have 0 or 1 at takes."""
+    if not isinstance(moves, list) or not all(isinstance(move, tuple) and len(move) == 2 for move in moves):
+        return "no list of moves"
+    if not all(is_whole(step) and (number is None or is_whole(number) and number in (0, 1)) for step, number in moves):
+        return "another number than 0 or 1"
+    if walked(program, moves) is None:
+        return "no run"
+    return None
+
+
+# ---- books
+
+def why_no_book(program, book):
+    if not isinstance(book, list) or not book or book[0] != (0, None, None):
+        return "no list with the first tuple"
+    steps = laid_by_signs(program)[1]
+    for number, coming in enumerate(book[1:], 1):
+        if not isinstance(coming, tuple) or len(coming) != 3 or not isinstance(coming[2], tuple):
+            return f"no tuple: {coming!r}"
+        place, back, move = coming
+        if not is_whole(place) or not is_whole(back) or not 0 <= back < number:
+            return f"no earlier tuple: {coming!r}"
+        if len(move) != 2 or not is_whole(move[0]) or not 0 <= move[0] < len(steps):
+            return f"no move: {coming!r}"
+        start, to, deed = steps[move[0]]
+        if start != book[back][0] or to != place:
+            return f"the move doesn't lead there: {coming!r}"
+        if deed[0] == "take":
+            if not is_whole(move[1]) or move[1] not in (0, 1):
+                return f"neither 0 nor 1 is taken: {coming!r}"
+        elif move[1] is not None:
+            return f"nothing is taken there: {coming!r}"
+    return None
+
+
+def stands_by_place(program, book):
+    """The stands of a book's tuples, in their order, each reckoned from the one that it goes back to."""
+    count, steps, end = laid_by_signs(program)
+    stands = [(1,) + (0,) * program[0]]
+    for place, back, (step, number) in book[1:]:
+        stands.append(after(steps[step][2], number, stands[back]))
+    told = [[] for place in range(count)]
+    for coming, stand in zip(book, stands):
+        told[coming[0]].append(stand)
+    return told
+
+
+# ---- what holds
+
+def product_sum(one, other):
+    return sum(a * b for a, b in zip(one, other))
+
+
+def ahead(line, deed):
+    """The line whose worth ahead of the deed is the line's worth behind it, less the number taken so many times."""
+    if deed[0] == "skip":
+        return line, 0
+    box = 1 + deed[1]
+    cleared = tuple(0 if k == box else number for k, number in enumerate(line))
+    if deed[0] == "take":
+        return cleared, line[box]
+    return added(cleared, scaled(line[box], deed[2])), 0
+
+
+def is_made_of(lines, line):
+    return rank(lines + [line]) == rank(lines)
+
+
+def why_not_kept(program, told, is_among, is_nought):
+    """
+    What is told to hold at each place does so at each coming: it holds at first, and by each step it comes of what
+    holds where the step begins, whatever is taken. is_among(lines, line) is asked of the lines told at a place and
+    another one; is_nought(number) tells which worth is none.
+    """
+    count, steps, end = laid_by_signs(program)
+    if not isinstance(told, list) or len(told) != count:
+        return "no list with something for each place"
+    come = places_come_to(program)
+    if {place for place in range(count) if told[place] is not None} != come:
+        return "told of other places than those to which a run comes"
+    if not all(is_nought(line[0]) for line in told[0]):
+        return "not so at first"
+    for start, to, deed in steps:
+        if start not in come:
+            continue
+        for number, line in enumerate(told[to]):
+            line_ahead, times_taken = ahead(line, deed)
+            if not is_nought(times_taken):
+                return f"line {number} at {to} hangs on what is taken"
+            if not is_among(told[start], line_ahead):
+                return f"line {number} at {to} doesn't come of what holds at {start}"
+    return None
+
+
+def all_stands_by_rest(program, rest):
+    """By each place all stands at its comings, their numbers from 0 to below the rest."""
+    count, steps, end = laid_by_signs(program)
+    found = [set() for place in range(count)]
+    fresh = [(0, (1,) + (0,) * program[0])]
+    found[0].add(fresh[0][1])
+    while fresh:
+        place, stand = fresh.pop()
+        for start, to, deed in steps:
+            if start != place:
+                continue
+            for number in range(rest) if deed[0] == "take" else (None,):
+                new = tuple(each % rest for each in after(deed, number, stand))
+                if new not in found[to]:
+                    found[to].add(new)
+                    fresh.append((to, new))
+    return found

@@ -42,7 +42,8 @@ def parts():
 class Form(unittest.TestCase):
     def test_only_plain_files_lie_there(self):
         self.assertGreaterEqual({path.name for path in FILES},
-                                {"__init__.py", "errors.py", "echelons.py", "squares.py", "programs.py"})
+                                {"__init__.py", "errors.py", "echelons.py", "squares.py", "programs.py", "layouts.py",
+                                 "runs.py", "notes.py", "rests.py"})
         for path in PACKAGE.iterdir():
             if path.name != "__pycache__":
                 self.assertRegex(path.name, r"^[a-z0-9_]+\.py$")
@@ -82,7 +83,8 @@ class Form(unittest.TestCase):
             if isinstance(part, ast.FunctionDef):
                 self.assertLessEqual(part.end_lineno - part.lineno + 1, 40, (name, part.name))
                 given = part.args
-                self.assertFalse(given.vararg or given.kwarg or given.kwonlyargs or given.posonlyargs, (name, part.name))
+                others = given.vararg or given.kwarg or given.kwonlyargs or given.posonlyargs
+                self.assertFalse(others, (name, part.name))
             if isinstance(part, (ast.FunctionDef, ast.ClassDef)):
                 self.assertEqual(part.decorator_list, [], (name, part.name))
             if isinstance(part, ast.ClassDef):
@@ -93,6 +95,53 @@ class Form(unittest.TestCase):
             if isinstance(part, ast.ImportFrom):
                 self.assertEqual(part.level, 0, name)
                 self.assertRegex(part.module, r"^evennotes\.[a-z]+$", name)
+
+    def test_imports_come_from_where_the_name_is_made(self):
+        drawn_from = {}
+        for path in FILES:
+            drawn_from[path.stem] = [part for part in ast.parse(path.read_text()).body
+                                     if isinstance(part, ast.ImportFrom)]
+        for name, rows in drawn_from.items():
+            for row in rows:
+                made = {part.name for part in ast.parse((PACKAGE / (row.module[10:] + ".py")).read_text()).body
+                        if isinstance(part, (ast.FunctionDef, ast.ClassDef))}
+                self.assertLessEqual({each.name for each in row.names}, made, name)
+                self.assertEqual([each.asname for each in row.names], [None] * len(row.names), name)
+                used = {part.id for part in ast.walk(ast.parse((PACKAGE / (name + ".py")).read_text()))
+                        if isinstance(part, ast.Name)}
+                self.assertLessEqual({each.name for each in row.names}, used, name)
+        while drawn_from:
+            free = [name for name, rows in drawn_from.items()
+                    if not any(row.module[10:] in drawn_from for row in rows)]
+            self.assertNotEqual(free, [], "files draw from one another")
+            for name in free:
+                del drawn_from[name]
+
+    def test_the_top_of_a_file(self):
+        for path in FILES:
+            rows = ast.parse(path.read_text()).body
+            bound = []
+            for row in rows:
+                if isinstance(row, (ast.FunctionDef, ast.ClassDef)):
+                    bound.append(row.name)
+                elif isinstance(row, ast.ImportFrom):
+                    bound += [each.name for each in row.names]
+                elif isinstance(row, ast.Assign):
+                    bound.append(row.targets[0].id)
+                else:
+                    self.assertTrue(row is rows[0] and isinstance(row.value.value, str), path)
+            self.assertEqual(len(bound), len(set(bound)), path)
+
+    def test_no_local_is_called_like_an_import_or_a_class(self):
+        for path in FILES:
+            whole = ast.parse(path.read_text())
+            taken = {part.name for part in whole.body if isinstance(part, ast.ClassDef)}
+            taken |= {each.name for part in whole.body if isinstance(part, ast.ImportFrom) for each in part.names}
+            for part in ast.walk(whole):
+                if isinstance(part, ast.arg):
+                    self.assertNotIn(part.arg, taken, path)
+                if isinstance(part, ast.Name) and isinstance(part.ctx, ast.Store):
+                    self.assertNotIn(part.id, taken, path)
 
     def test_names_and_methods(self):
         own = own_values()

@@ -2,22 +2,14 @@ import random
 import unittest
 from copy import deepcopy
 
+from draws import HALT, SKIP, deep
 from evennotes.programs import is_program
 from oracles import is_a_program
 
-SKIP = ("skip",)
-HALT = ("halt",)
 LINE = (1, -2, 3)
 JUNK = [None, True, False, 0, 1, 2, -1, 7, 999999, 1000000, -1000000, 10 ** 60 - 1, 1 - 10 ** 60, "", "set", "skip",
         "halt", "0", (), [], (1,), [1], ("skip",), ["skip"], [("skip",)], (0, 0), (0, 0, 0), [0, 0, 0], ("no",),
         ("call", 1), ("loop", []), ("either", [], []), ("take", 0), ("take", True), ("set", 0, (0, 0, 0))]
-
-
-def deep(many, rows):
-    """The rows, with so many loops around them."""
-    for k in range(many):
-        rows = [("loop", rows)]
-    return rows
 
 
 def deep_by_eithers(many, rows, side):
