@@ -88,3 +88,51 @@ def drawn_run(draw, program, most, taken=(0, 1, -1, NINE_FIGURES, -NINE_FIGURES)
         moves.append((step, draw.choice(taken) if steps[step][2][0] == "take" else None))
         place = steps[step][1]
     return moves
+
+
+def moved_boxes(draw, rows, many):
+    """The rows with other boxes and lines, of so many boxes."""
+    told = []
+    for row in rows:
+        if row[0] == "set":
+            told.append(("set", draw.randrange(many), small_line(draw, many)))
+        elif row[0] == "take":
+            told.append(("take", draw.randrange(many)))
+        else:
+            told.append(tuple(moved_boxes(draw, part, many) if isinstance(part, list) else part for part in row))
+    return told
+
+
+def like_program(draw, program, many):
+    """A program of the same shape with so many boxes; these are none only where nothing is set or taken."""
+    return (many, [moved_boxes(draw, body, many) for body in program[1]])
+
+
+def with_spare_box(draw, program, spare):
+    """The program with one box more, that is set to a sum of the others behind each change, and read at times."""
+    many = program[0]
+    least = tuple(draw.choice((0, 0, 1, -1, 2)) for place in range(many + 1))
+
+    def put_in(line, number):
+        return line[:spare + 1] + (number,) + line[spare + 1:]
+
+    def moved(box):
+        return box + (box >= spare)
+
+    def rows_with(rows):
+        told = []
+        for row in rows:
+            if row[0] == "set":
+                often = draw.choice((0, 0, 1, -1, 3))
+                line = tuple(a - often * b for a, b in zip(row[2], least)) if draw.random() < 0.5 else row[2]
+                told.append(("set", moved(row[1]), put_in(line, often)))
+            elif row[0] == "take":
+                told.append(("take", moved(row[1])))
+            else:
+                told.append(tuple(rows_with(part) if isinstance(part, list) else part for part in row))
+            if row[0] in ("set", "take") and draw.random() < 0.8:
+                told.append(("set", spare, put_in(least, 0)))
+        return told
+
+    first = [("set", spare, put_in(least, 0))]
+    return (many + 1, [first * (number == 0) + rows_with(body) for number, body in enumerate(program[1])])

@@ -1,5 +1,7 @@
 """What the tests hold the program against, written from the document by other ways than the program's own."""
 
+import re
+from ast import literal_eval
 from fractions import Fraction
 from itertools import combinations, product
 from math import gcd, prod
@@ -417,3 +419,188 @@ def all_stands_by_rest(program, rest):
                     found[to].add(new)
                     fresh.append((to, new))
     return found
+
+
+# ---- two programs side by side
+
+def flat(rows):
+    """The rows one after another with signs where lists begin and end, calls as they are."""
+    for row in rows:
+        lists = [part for part in row if isinstance(part, list)]
+        if not lists:
+            yield row
+            continue
+        yield (row[0],)
+        for number, part in enumerate(lists):
+            if number:
+                yield ("or",)
+            yield from flat(part)
+        yield (row[0] + " ends",)
+
+
+def shape(program):
+    return [[row if row[0] == "call" else row[:1] for row in flat(body)] for body in program[1]]
+
+
+def joined_signs(one, other):
+    """By each body the signs of the joined program, made of those of the two."""
+    many, more = one[0], other[0]
+    told = []
+    for rows, others in zip(one[1], other[1]):
+        signs_told = []
+        for row, like in zip(flat(rows), flat(others)):
+            if row[0] == "set":
+                signs_told.append(("set", row[1], row[2] + (0,) * more))
+                signs_told.append(("set", many + like[1], (like[2][0],) + (0,) * many + like[2][1:]))
+            elif row[0] == "take":
+                signs_told.append(row)
+                signs_told.append(("set", many + like[1], units(many + more + 1, 1)[row[1] + 1]))
+            else:
+                signs_told.append(row)
+        told.append(signs_told)
+    return told
+
+
+def joined_places(one, other):
+    """The most places that a body of the joined program has."""
+    counts = []
+    for body in one[1]:
+        pairs = sum(row[0] in ("set", "take") for row in signs(one[1], body))
+        counts.append(1 + laid_count(one[1], body, 1, []) + pairs)
+    return max(counts)
+
+
+def both_walked(one, other, moves):
+    """The place behind like runs, and the stand of both; None where they are no runs of both."""
+    first, second = walked(one, moves), walked(other, moves)
+    if first is None or second is None or [each[0] for each in first] != [each[0] for each in second]:
+        return None
+    return first[-1][0], first[-1][1] + second[-1][1][1:]
+
+
+def stands_of_both(one, other):
+    """By each place free stands of both, of which all stands of both behind like runs that come there are made."""
+    count, steps, end = laid_by_signs(one)
+    likes = laid_by_signs(other)[1]
+    found = [[] for place in range(count)]
+    fresh = [(0, (1,) + (0,) * one[0], (1,) + (0,) * other[0])]
+    while fresh:
+        place, stand, like = fresh.pop()
+        whole = stand + like[1:]
+        if is_made_of(found[place], whole):
+            continue
+        found[place].append(whole)
+        for (start, to, deed), (other_start, other_to, other_deed) in zip(steps, likes):
+            if start == place:
+                for number in (0, 1) if deed[0] == "take" else (None,):
+                    fresh.append((to, after(deed, number, stand), after(other_deed, number, like)))
+    return found
+
+
+# ---- a box left out
+
+def fixed_by_parts(lines, box):
+    """Of the lines that hold at a place the line whose worth the box is, or None, reckoned with parts of numbers."""
+    if lines is None:
+        return None
+    order = [place for place in range(len(lines[0]) if lines else 0) if place != box + 1] + [box + 1]
+    rows = [[Fraction(line[place]) for place in order] for line in lines]
+    done = []
+    for place in reversed(range(len(order))):
+        pick = next((row for row in rows if row[place]), None)
+        if pick is None:
+            continue
+        rows = [row for row in rows if row is not pick]
+        pick = [number / pick[place] for number in pick]
+        rows = [[a - row[place] * b for a, b in zip(row, pick)] for row in rows]
+        done = [[a - row[place] * b for a, b in zip(row, pick)] for row in done] + [pick]
+    tops = [row for row in done if row[-1]]
+    if not tops or any(number.denominator != 1 for number in tops[0]):
+        return None
+    told = [0] * len(order)
+    for place, number in zip(order[:-1], tops[0]):
+        told[place] = -int(number)
+    return tuple(told)
+
+
+def reads_box(deed, box):
+    return deed[0] == "set" and deed[1] != box and deed[2][box + 1] != 0
+
+
+def place_of_need(program, told, box):
+    """The place of Needed, or None; told are the notes of each place."""
+    return min((start for start, to, deed in laid_by_signs(program)[1] if reads_box(deed, box)
+                and told[start] is not None and fixed_by_parts(told[start], box) is None), default=None)
+
+
+def deeds_without(program, told, box):
+    """The deeds of the steps of the program without the box."""
+    def cut(line):
+        return tuple(number for place, number in enumerate(line) if place != box + 1)
+
+    deeds = []
+    for start, to, deed in laid_by_signs(program)[1]:
+        if deed[0] == "skip" or deed[1] == box:
+            deeds.append(("skip",))
+            continue
+        line = deed[2] if deed[0] == "set" else None
+        if reads_box(deed, box) and told[start] is not None:
+            line = added(line, scaled(line[box + 1], fixed_by_parts(told[start], box)))
+        deeds.append((deed[0], deed[1] - (deed[1] > box)) + (() if line is None else (cut(line),)))
+    return deeds
+
+
+def signs_without(program, deeds, box):
+    """The signs of the one body of the program without the box."""
+    new = iter([deed for deed, step in zip(deeds, laid_by_signs(program)[1]) if step[2][0] != "skip"])
+    return [next(new) if row[0] in ("set", "take") else row for row in signs(program[1], program[1][0])]
+
+
+# ---- texts
+
+def text_by_signs(program):
+    words = {"either ends": "end", "loop ends": "end"}
+    rows = ["boxes " + str(program[0])]
+    for body in program[1]:
+        rows.append("body")
+        for row in flat(body):
+            numbers = row[1:] if row[0] != "set" else (row[1],) + row[2]
+            rows.append(" ".join([words.get(row[0], row[0])] + [str(number) for number in numbers]))
+    return "; ".join(rows)
+
+
+NUMBER = "(?:0|-?[1-9][0-9]{0,59})"
+LITERALS = (
+    ("body", "],["), ("either", "('either',["), ("or", "],["), ("end", "]),"), ("loop", "('loop',["),
+    ("skip", "('skip',),"), ("halt", "('halt',),"))
+
+
+def program_by_literal(text):
+    """The program that the text tells, or None: the rows are put into Python's own words, and these are read."""
+    if not isinstance(text, str):
+        return None
+    rows = text.split("; ")
+    if not re.fullmatch("boxes " + NUMBER, rows[0]) or rows[1:2] != ["body"]:
+        return None
+    told = ["(" + rows[0][6:] + ",[["]
+    depth = 0
+    for row in rows[2:]:
+        if row == "body" and depth or row == "or" and not depth:
+            return None
+        depth += (row in ("either", "loop")) - (row == "end")
+        if row in dict(LITERALS):
+            told.append(dict(LITERALS)[row])
+        elif re.fullmatch("(?:take|call) " + NUMBER, row):
+            told.append("('" + row[:4] + "'," + row[5:] + "),")
+        elif re.fullmatch("set " + NUMBER + "(?: " + NUMBER + ")+", row):
+            numbers = row.split(" ")[1:]
+            told.append("('set'," + numbers[0] + ",(" + ",".join(numbers[1:]) + ",)),")
+        else:
+            return None
+        if not 0 <= depth <= 50:
+            return None
+    try:
+        program = literal_eval("".join(told) + "]])")
+    except SyntaxError:
+        return None
+    return program if is_a_program(program) else None

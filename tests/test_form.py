@@ -39,11 +39,17 @@ def parts():
             yield path.name, part
 
 
+def names_made(rows):
+    """The names that a file makes at its top, those that it draws from others not among them."""
+    return ({row.name for row in rows if isinstance(row, (ast.FunctionDef, ast.ClassDef))}
+            | {row.targets[0].id for row in rows if isinstance(row, ast.Assign)})
+
+
 class Form(unittest.TestCase):
     def test_only_plain_files_lie_there(self):
         self.assertGreaterEqual({path.name for path in FILES},
                                 {"__init__.py", "errors.py", "echelons.py", "squares.py", "programs.py", "layouts.py",
-                                 "runs.py", "notes.py", "rests.py"})
+                                 "runs.py", "notes.py", "rests.py", "joins.py", "needless.py", "texts.py", "desk.py"})
         for path in PACKAGE.iterdir():
             if path.name != "__pycache__":
                 self.assertRegex(path.name, r"^[a-z0-9_]+\.py$")
@@ -103,8 +109,7 @@ class Form(unittest.TestCase):
                                      if isinstance(part, ast.ImportFrom)]
         for name, rows in drawn_from.items():
             for row in rows:
-                made = {part.name for part in ast.parse((PACKAGE / (row.module[10:] + ".py")).read_text()).body
-                        if isinstance(part, (ast.FunctionDef, ast.ClassDef))}
+                made = names_made(ast.parse((PACKAGE / (row.module[10:] + ".py")).read_text()).body)
                 self.assertLessEqual({each.name for each in row.names}, made, name)
                 self.assertEqual([each.asname for each in row.names], [None] * len(row.names), name)
                 used = {part.id for part in ast.walk(ast.parse((PACKAGE / (name + ".py")).read_text()))
